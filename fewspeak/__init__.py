@@ -1,0 +1,1 @@
+"""Fewspeak: few that speak for many, drawn by told throws."""
