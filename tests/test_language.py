@@ -124,7 +124,8 @@ class LanguageTest(unittest.TestCase):
                     self.assertIsInstance(node, TOP)
                 defined, imported = top_names(tree)
                 self.assertEqual(len(set(defined + imported)), len(defined + imported))
-                self.assertEqual(set(local_names(tree)) & set(imported), set())
+                classes = {node.name for node in tree.body if isinstance(node, ast.ClassDef)}
+                self.assertEqual(set(local_names(tree)) & (set(imported) | classes), set())
         for where, node in self.nodes(ast.Expr):
             self.assertIsInstance(node.value, (ast.Call, ast.Constant), where)
 
@@ -181,6 +182,22 @@ class LanguageTest(unittest.TestCase):
         for where, node in self.nodes(ast.Call):
             if isinstance(node.func, ast.Attribute):
                 self.assertIn(node.func.attr, OWN_METHODS | methods, where)
+
+    def test_lambdas_with_the_same_parameters_stand_on_rows_of_their_own(self):
+        rows = [(where, ast.unparse(node.args)) for where, node in self.nodes(ast.Lambda)]
+        self.assertEqual(len(set(rows)), len(rows), rows)
+
+    def test_keywords(self):
+        allowed = {"sorted": {"key", "reverse"}, "min": {"key", "default"}, "max": {"key", "default"}, "sum": {"start"},
+                   "enumerate": {"start"}, "zip": {"strict"}}
+        for where, node in self.nodes(ast.Call):
+            for keyword in node.keywords:
+                self.assertIn(keyword.arg, allowed.get(ast.unparse(node.func), set()), where)
+
+    def test_powers_have_a_written_exponent(self):
+        for where, node in self.nodes(ast.BinOp):
+            if isinstance(node.op, ast.Pow):
+                self.assertIsInstance(node.right, ast.Constant, where)
 
     def test_is_stands_beside_none_true_and_false_alone(self):
         for where, node in self.nodes(ast.Compare):
