@@ -6,24 +6,20 @@ from fractions import Fraction
 from math import comb
 
 from fewspeak.dice import Node, drawn, matrix_of, table
+from fewspeak.duels import Duel
 from fewspeak.errors import NoPlan, NoThrow, SpeakError, TooMany
 from fewspeak.plans import Few, Loose, Plan, Start, wished
-from walks import NO_WHOLE_NUMBERS, pair, walk, walked_matrix, walked_table, ways
+from walks import NO_WHOLE_NUMBERS, crowd_by, pair, walk, walked_matrix, walked_table, ways
 
-KINDS = (Few, Start, Loose)
-BOUNDS = {Few: (0, 24), Start: (1, 100), Loose: (0, 24)}
-WORDS = {Few: "few", Start: "start", Loose: "loose"}
-
-
-def crowd_by(sizes, places=None, path=()):
-    """A crowd with these sizes, at the places 0, 1, 2 .. if no others are told."""
-    return list(zip(places or range(len(sizes)), sizes, [path] * len(sizes)))
+KINDS = (Few, Start, Loose, Duel)
+BOUNDS = {Few: (0, 24), Start: (1, 100), Loose: (0, 24), Duel: (0, 24)}
+WORDS = {Few: "few", Start: "start", Loose: "loose", Duel: "duel"}
 
 
 def some_plans():
     """Each kind with its bounds and some numbers between."""
     return ([Few(many) for many in (0, 1, 2, 3, 5, 23, 24)] + [Start(step) for step in (1, 2, 3, 4, 7, 24, 99, 100)]
-            + [Loose(many) for many in (0, 1, 2, 3, 5, 23, 24)])
+            + [Loose(many) for many in (0, 1, 2, 3, 5, 23, 24)] + [Duel(many) for many in (0, 1, 2, 3, 5, 23, 24)])
 
 
 def some_crowds():
@@ -134,7 +130,7 @@ class WishedTest(unittest.TestCase):
 
 
 class MadeTest(unittest.TestCase):
-    """Promises 6 and 35."""
+    """Promises 6, 35 and 44."""
 
     def assertNoPlan(self, kind, thing):
         with self.assertRaises(SpeakError) as caught:
@@ -167,7 +163,8 @@ class MadeTest(unittest.TestCase):
         for kind, (low, high) in BOUNDS.items():
             for number in range(low, high + 1):
                 self.assertEqual(kind(number).text(), f"{WORDS[kind]} {number}")
-        self.assertEqual([Few(3).text(), Start(4).text(), Loose(5).text()], ["few 3", "start 4", "loose 5"])
+        self.assertEqual([Few(3).text(), Start(4).text(), Loose(5).text(), Duel(5).text()],
+                         ["few 3", "start 4", "loose 5", "duel 5"])
 
     def test_each_kind_stands_under_plan_and_none_under_another(self):
         for kind in KINDS:
@@ -188,7 +185,7 @@ class MadeTest(unittest.TestCase):
 
 
 class PlansTest(unittest.TestCase):
-    """Promises 5, 7 and 30: what holds of each of the plans."""
+    """Promises 5, 7, 30 and 44: what holds of each of the plans that need no names."""
 
     def test_any_number_of_names_will_do(self):
         for plan in some_plans():
@@ -206,7 +203,7 @@ class PlansTest(unittest.TestCase):
 
     def test_every_throw_against_the_matrix_and_the_bounds(self):
         plans = ([Few(many) for many in range(7)] + [Start(step) for step in (1, 2, 3, 4, 5, 6, 9)]
-                 + [Loose(many) for many in range(7)])
+                 + [Loose(many) for many in range(7)] + [Duel(many) for many in range(7)])
         for plan in plans:
             for crowd in small_crowds():
                 node, places = plan.node(crowd), [member[0] for member in crowd]

@@ -1,9 +1,14 @@
-"""What several tests need: things that are no whole numbers, and walks through all throws of a node."""
+"""What several tests need: things that are no whole numbers, crowds, and walks through all throws of a node."""
 
 from fractions import Fraction
 
 NO_WHOLE_NUMBERS = (None, True, False, 0.0, 1.0, 1.5, float("nan"), float("inf"), 1j, "", "0", "1", "few", b"1", (), (0,),
                     (1, 1), [], [0], [1], {}, {1: 1}, {1}, object(), int, len, range(3), Fraction(1), Fraction(1, 2))
+
+
+def crowd_by(sizes, places=None, path=()):
+    """A crowd with these sizes, at the places 0, 1, 2 .. if no others are told."""
+    return list(zip(places or range(len(sizes)), sizes, [path] * len(sizes)))
 
 
 def walk(node):
@@ -38,6 +43,11 @@ def ways(node):
     if node.is_told():
         return [(node.kept(), Fraction(1))]
     return [(kept, part * Fraction(many, node.sides())) for many, after in node.parts() for kept, part in ways(after)]
+
+
+def shape(node):
+    """The whole of a node: what it keeps, or a list of tuples (sides of the part, the shape behind it)."""
+    return node.kept() if node.is_told() else [(many, shape(after)) for many, after in node.parts()]
 
 
 def pair(number):
