@@ -69,8 +69,7 @@ class Each(Plan):
         return (sum([least for least, most in told]), sum([most for least, most in told]))
 
     def text(self):
-        inside = self.inside.text()
-        return f"each ( {inside} )"
+        return text_of(self)
 
     def need_levels(self, levels):
         need_group_names(levels)
@@ -101,11 +100,26 @@ class First(Plan):
         return (sum(lows[:fewest]), sum(highs[:most]))
 
     def text(self):
-        outside = self.outside.text()
-        inside = self.inside.text()
-        return f"first ( {outside} ) then ( {inside} )"
+        return text_of(self)
 
     def need_levels(self, levels):
         need_group_names(levels)
         self.outside.need_levels(0)
         self.inside.need_levels(levels - 1)
+
+
+def text_of(plan):
+    # A walk, as plans may stand deeper within one another than calls may.
+    told = []
+    ahead = [plan]
+    while ahead:
+        here = ahead.pop()
+        if isinstance(here, str):
+            told.append(here)
+        elif isinstance(here, Each):
+            ahead.extend([" )", here.inside, "each ( "])
+        elif isinstance(here, First):
+            ahead.extend([" )", here.inside, " ) then ( ", here.outside, "first ( "])
+        else:
+            told.append(here.text())
+    return "".join(told)

@@ -394,6 +394,14 @@ class TextTest(unittest.TestCase):
             self.assertEqual(plan.text(), text)
             plan, text = First(Few(2), plan), f"first ( few 2 ) then ( {text} )"
             self.assertEqual(plan.text(), text)
+            plan, text = First(plan, Duel(3)), f"first ( {text} ) then ( duel 3 )"
+            self.assertEqual(plan.text(), text)
+
+    def test_deeper_than_calls_may_stand_within_one_another(self):
+        plan = Start(9)
+        for depth in range(3000):
+            plan = Each(plan)
+        self.assertEqual(plan.text(), "each ( " * 3000 + "start 9" + " )" * 3000)
 
 
 if __name__ == "__main__":
