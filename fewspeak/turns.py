@@ -2,7 +2,7 @@
 
 from fewspeak.dice import Die, Told
 from fewspeak.errors import NoTurn
-from fewspeak.words import is_whole
+from fewspeak.words import is_list_of, is_whole
 
 CIRCLE = 1000
 MOST_LISTED = 24
@@ -14,10 +14,6 @@ def is_number(thing):
 
 def is_many(thing):
     return is_whole(thing, 0, CIRCLE)
-
-
-def is_list_of(things, is_one):
-    return isinstance(things, list) and len(things) <= MOST_LISTED and all([is_one(thing) for thing in things])
 
 
 def need(holds):
@@ -36,7 +32,7 @@ class Turn:
         return (number - self.start) % CIRCLE < self.many
 
     def members(self, numbers):
-        need(is_list_of(numbers, is_number))
+        need(is_list_of(numbers, MOST_LISTED, is_number))
         return [place for place, number in enumerate(numbers) if self.has(number)]
 
     def moved(self, by):
@@ -78,7 +74,7 @@ def counts(turns):
 
 
 def picked(start, manys, numbers):
-    need(is_number(start) and is_list_of(manys, is_many) and is_list_of(numbers, is_number))
+    need(is_number(start) and is_list_of(manys, MOST_LISTED, is_many) and is_list_of(numbers, MOST_LISTED, is_number))
     need(len(manys) == len(numbers))
     return [place for place, many in enumerate(manys) if Turn(start, many).has(numbers[place])]
 

@@ -1,4 +1,4 @@
-"""Whole numbers and names, told of any thing, and numbers read from texts."""
+"""Whole numbers, names and lists, told of any thing, and numbers read from texts."""
 
 LETTERS = "abcdefghijklmnopqrstuvwxyz"
 FIGURES = "0123456789"
@@ -17,6 +17,10 @@ def is_made_of(text, signs, most):
 
 def is_name(thing):
     return isinstance(thing, str) and is_made_of(thing, LETTERS, MOST_LETTERS)
+
+
+def is_list_of(thing, most, is_one):
+    return isinstance(thing, list) and len(thing) <= most and all([is_one(part) for part in thing])
 
 
 def number_of(text, low, high):

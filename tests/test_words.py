@@ -1,6 +1,6 @@
 import unittest
 
-from fewspeak.words import is_name, is_whole, number_of
+from fewspeak.words import is_list_of, is_name, is_whole, number_of
 
 OTHER_KINDS = (None, True, False, 1.0, 1.5, float("nan"), float("inf"), 1j, b"a", b"1", (), (1,), ("a",), [], [1],
                ["a"], {}, {"a": 1}, {1}, object(), int, str, len, range(3))
@@ -54,6 +54,23 @@ class IsNameTest(unittest.TestCase):
         for thing in OTHER_KINDS + (0, 1, -1):
             with self.subTest(repr(thing)):
                 self.assertIs(is_name(thing), False)
+
+
+class IsListOfTest(unittest.TestCase):
+    def test_lists_up_to_the_most(self):
+        for most in (0, 1, 6, 24):
+            for many in range(most + 1):
+                self.assertIs(is_list_of(["a"] * many, most, is_name), True)
+            self.assertIs(is_list_of(["a"] * (most + 1), most, is_name), False)
+
+    def test_each_of_them_is_looked_at(self):
+        for place in range(4):
+            self.assertIs(is_list_of(["a"] * place + ["A"] + ["a"] * (3 - place), 4, is_name), False)
+
+    def test_what_is_no_list(self):
+        for thing in (None, True, 0, 1, 1.5, "", "a", ("a",), (), {}, {"a": 1}, {"a"}, object(), list, range(0), iter([])):
+            with self.subTest(repr(thing)):
+                self.assertIs(is_list_of(thing, 4, is_name), False)
 
 
 class NumberOfTest(unittest.TestCase):
